@@ -1,0 +1,1 @@
+"""Anchoredits: changes of texts at words that stand once."""
