@@ -13,6 +13,29 @@ INTERFACE = {
         "Every": ["__init__", "__eq__", "old", "new"],
         "AtOnce": ["__init__", "__eq__", "parts"],
     },
+    "programs": {
+        "Program": [
+            "__init__", "__eq__", "__len__", "edits", "olds", "news", "then", "run", "is_right", "steps", "mirrored",
+        ],
+    },
+    "origins": {"origins": None},
+    "sets": {
+        "TextSet": [
+            "__init__", "__eq__", "__or__", "__and__", "__sub__", "__contains__", "__bool__", "every", "having",
+            "of_table", "table", "size", "least", "letters", "is_within", "count", "ordered", "difference",
+        ],
+    },
+    "machines": {
+        "Machine": ["of", "of_table", "table", "__eq__", "run", "sure", "domain", "into", "limited_to", "then"],
+    },
+    "compare": dict.fromkeys([
+        "parted", "within", "agreeing", "unchanged", "orders", "exchangeable", "orders_alike", "needless", "back",
+        "unrestored", "doubled", "one_edit", "unheld",
+    ]),
+    "likeness": dict.fromkeys(["likeness", "is_likeness"]),
+    "anchors": dict.fromkeys([
+        "windows", "edit_at", "ways", "outcomes", "steady", "breaker", "stays", "spoiled",
+    ]),
     "errors": {
         "InvalidOld": ["__init__"],
         "InvalidNew": ["__init__"],
@@ -51,6 +74,36 @@ INTERFACE = {
     },
 }
 
+# The names of the parameters of functions and methods, for those that are passed by name.
+PARAMETERS = {
+    "edits": {"places": "text word", "Once": "old new", "AtOnce": "*parts"},
+    "programs": {
+        "Program": "*edits", "Program.then": "*others", "Program.run": "text", "Program.is_right": "text",
+        "Program.steps": "text", "Program.mirrored": "",
+    },
+    "origins": {"origins": "program text"},
+    "sets": {
+        "TextSet.every": "", "TextSet.having": "word", "TextSet.of_table": "table", "TextSet.is_within": "other",
+        "TextSet.count": "number letters", "TextSet.ordered": "letters", "TextSet.difference": "other",
+    },
+    "machines": {
+        "Machine.of": "program", "Machine.of_table": "table", "Machine.run": "text", "Machine.sure": "text",
+        "Machine.into": "texts", "Machine.limited_to": "texts", "Machine.then": "other",
+    },
+    "compare": {
+        "parted": "one other", "within": "one other", "agreeing": "one other", "unchanged": "program",
+        "orders": "one other", "exchangeable": "program index", "orders_alike": "program", "needless": "program",
+        "back": "program", "unrestored": "program", "doubled": "program", "one_edit": "program",
+        "unheld": "before program after",
+    },
+    "likeness": {"likeness": "one other", "is_likeness": "one other value"},
+    "anchors": {
+        "windows": "text first last", "edit_at": "text first last new", "ways": "text edits", "outcomes": "text edits",
+        "steady": "text first last edits", "breaker": "text begin end edits", "stays": "edit program",
+        "spoiled": "edit others",
+    },
+}
+
 
 class InterfaceTest(unittest.TestCase):
     def test_defined_in_its_file(self):
@@ -67,6 +120,18 @@ class InterfaceTest(unittest.TestCase):
             for name, members in names.items():
                 for member in members or []:
                     self.assertIn(member, vars(getattr(module, name)), name)
+
+    def test_names_of_parameters(self):
+        for file, names in PARAMETERS.items():
+            module = importlib.import_module("anchoredits." + file)
+            for name, told in names.items():
+                value = module
+                for part in name.split("."):
+                    value = getattr(value, part)
+                parameters = list(inspect.signature(value).parameters.values())
+                words = [("*" if parameter.kind is parameter.VAR_POSITIONAL else "") + parameter.name
+                         for parameter in parameters if parameter.name != "self"]
+                self.assertEqual(" ".join(words), told, name)
 
 
 if __name__ == "__main__":

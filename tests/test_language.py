@@ -34,7 +34,7 @@ BARRED_NODES = (
 )
 
 
-class LanguageTest(unittest.TestCase):
+class SourcesTest(unittest.TestCase):
     def setUp(self):
         self.sources = {}
         for folder, _, files in os.walk(PACKAGE):
@@ -50,6 +50,8 @@ class LanguageTest(unittest.TestCase):
             for node in ast.walk(tree):
                 yield f"{file}:{getattr(node, 'lineno', 0)}", node
 
+
+class LanguageTest(SourcesTest):
     def test_files(self):
         self.assertIn("__init__.py", self.sources)
         for file in self.sources:
@@ -127,6 +129,109 @@ class LanguageTest(unittest.TestCase):
                 if isinstance(node, ast.ImportFrom):
                     names += [name.name for name in node.names]
             self.assertEqual(len(names), len(set(names)), file)
+
+    def test_names_of_imports_and_classes(self):
+        for file, tree in self.trees.items():
+            kept = [name.name for node in tree.body if isinstance(node, ast.ImportFrom) for name in node.names]
+            kept += [node.name for node in tree.body if isinstance(node, ast.ClassDef)]
+            used = [node.id for node in ast.walk(tree) if isinstance(node, ast.Name)]
+            for node in ast.walk(tree):
+                if isinstance(node, ast.arg):
+                    self.assertNotIn(node.arg, kept, f"{file}:{node.lineno}")
+                if isinstance(node, ast.Name) and isinstance(node.ctx, ast.Store):
+                    self.assertNotIn(node.id, kept, f"{file}:{node.lineno}")
+                if isinstance(node, ast.ImportFrom):
+                    for name in node.names:
+                        self.assertIn(name.name, used, f"{file}:{node.lineno}")
+
+    def test_no_imports_in_a_circle(self):
+        needs = {}
+        for file, tree in self.trees.items():
+            needs[file] = [node.module.split(".")[-1] + ".py" for node in tree.body
+                           if isinstance(node, ast.ImportFrom) and node.module.startswith("anchoredits.")]
+        while needs:
+            free = [file for file in needs if not any(needed in needs for needed in needs[file])]
+            self.assertTrue(free, needs)
+            for file in free:
+                del needs[file]
+
+    def test_no_sets_and_no_generator_expressions(self):
+        # Classes have __eq__: so any, all, sorted and the like take lists. Sets are not needed.
+        for place, node in self.nodes():
+            self.assertNotIsInstance(node, (ast.GeneratorExp, ast.Set, ast.SetComp), place)
+            self.assertNotIn(ast.unparse(node), ("set()", "frozenset()"), place)
+
+    def test_generators_alone_have_their_names(self):
+        functions = [node for _, node in self.nodes() if isinstance(node, ast.FunctionDef)]
+        names = [node.name for node in functions if any(isinstance(part, ast.Yield) for part in ast.walk(node))]
+        self.assertEqual(sorted(names), sorted(node.name for node in functions if node.name in names))
+        self.assertEqual(len(names), len(set(names)))
+        for place, node in self.nodes():
+            if isinstance(node, ast.Name):
+                self.assertNotIn(node.id, names, place)
+
+
+MAKERS = ["list", "dict", "sorted"]
+CHANGING = ["append", "extend", "pop", "insert", "remove", "clear", "update", "setdefault", "sort", "reverse", "add"]
+
+
+class PureTest(SourcesTest):
+    """Operators and properties, and all that they call, change only what they have made themselves."""
+
+    def functions(self):
+        """A dict from each name to the functions and methods that have it."""
+        told = {}
+        for _, node in self.nodes():
+            if isinstance(node, ast.FunctionDef) and node.name != "__init__":
+                told.setdefault(node.name, []).append(node)
+            if isinstance(node, ast.ClassDef):
+                told[node.name] = [part for part in node.body
+                                   if isinstance(part, ast.FunctionDef) and part.name == "__init__"]
+        return told
+
+    def pure(self):
+        """All functions that operators and properties call, and these themselves."""
+        functions = self.functions()
+        waiting = [node for nodes in functions.values() for node in nodes if node.decorator_list and ast.unparse(
+            node.decorator_list[0]) == "property" or node.name.startswith("__")]
+        met = []
+        while waiting:
+            node = waiting.pop()
+            if node in met:
+                continue
+            met.append(node)
+            for part in ast.walk(node):
+                if isinstance(part, ast.Call) and isinstance(part.func, ast.Name):
+                    waiting += functions.get(part.func.id, [])
+        return met
+
+    def made(self, node):
+        """The names of lists and dicts that a function makes itself."""
+        told = []
+        for part in ast.walk(node):
+            if isinstance(part, ast.Assign) and (isinstance(part.value, (ast.List, ast.Dict, ast.ListComp)) or isinstance(
+                    part.value, ast.Call) and ast.unparse(part.value.func) in MAKERS):
+                told += [target.id for target in part.targets if isinstance(target, ast.Name)]
+        return told
+
+    def test_pure(self):
+        pure = self.pure()
+        self.assertIn("blocks_of", [node.name for node in pure])
+        for node in pure:
+            made = self.made(node)
+            for part in ast.walk(node):
+                place = f"{node.name}: {ast.unparse(part)[:80]}"
+                if isinstance(part, ast.Call) and isinstance(part.func, ast.Attribute) and part.func.attr in CHANGING:
+                    self.assertIn(ast.unparse(part.func.value), made, place)
+                if isinstance(part, ast.Subscript) and isinstance(part.ctx, ast.Store):
+                    self.assertIn(ast.unparse(part.value), made, place)
+                if isinstance(part, ast.Attribute) and isinstance(part.ctx, ast.Store):
+                    self.assertEqual(node.name, "__init__", place)
+                if isinstance(part, ast.AugAssign):
+                    self.assertIsInstance(part.value, ast.Constant, place)
+                    self.assertIsInstance(part.target, ast.Name, place)
+                if isinstance(part, ast.Assign) and isinstance(part.targets[0], ast.Name) and part.targets[0].id in made:
+                    self.assertIn(type(part.value), (ast.List, ast.Dict, ast.ListComp, ast.Call), place)
 
 
 if __name__ == "__main__":
