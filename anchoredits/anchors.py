@@ -26,8 +26,7 @@ def check_spot(text, first, last):
 
 def stands_twice(text, word):
     """Whether a word has more than one place in a text."""
-    place = text.find(word)
-    return place >= 0 and text.find(word, place + 1) >= 0
+    return text.find(word, text.find(word) + 1) >= 0
 
 
 def stands_once(text, word):
@@ -75,21 +74,15 @@ def outcomes(text, edits):
 
 
 def kept_ends(entries, length):
-    """For each begin the greatest end to which the letters of a text of this length stand side by side in a result."""
-    follows = [False for _ in range(length)]
-    stays_there = [False for _ in range(length)]
-    for place, entry in enumerate(entries):
-        if not isinstance(entry, tuple):
-            stays_there[entry] = True
-            follows[entry] = place > 0 and entries[place - 1] == entry - 1
-    ends = [0 for _ in range(length)]
+    """For each begin the greatest end up to which all letters of a text of this length are kept in a result.
+
+    Kept letters that were neighbours still are: what an edit puts stands in the place of letters that go.
+    """
+    kept = {entry: True for entry in entries if not isinstance(entry, tuple)}
+    ends = list(range(length + 1))
     for begin in reversed(range(length)):
-        if not stays_there[begin]:
-            ends[begin] = begin
-        elif begin + 1 < length and follows[begin + 1]:
+        if begin in kept:
             ends[begin] = ends[begin + 1]
-        else:
-            ends[begin] = begin + 1
     return ends
 
 

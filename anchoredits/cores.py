@@ -122,14 +122,12 @@ def kept_rows(endings, rows):
 
 def letter_moves(written, target, letters):
     """Pairs (kind, letters): the letters that lead to the target alike, their kind (target, text, copies)."""
-    if ITSELF not in written and (written == "" or written[-1] not in letters):
-        return [((target, written, False), letters)]
-    if ITSELF not in written[:-1] and written[-1] == ITSELF:
+    if written.endswith(ITSELF):
         return [((target, written[:-1], True), letters)]
     moves = []
     for letter in letters:
         text = written.replace(ITSELF, letter)
-        copies = text[-1] == letter
+        copies = text.endswith(letter)
         moves.append(((target, text[:-1] if copies else text, copies), letter))
     return moves
 

@@ -1,7 +1,7 @@
 """Papers that show that two machines do the same for every text.
 
 A demand is a tuple (state, other state, lead): what must be shown of the states behind a letter, None for a missing
-move. Leads are told in parting.py.
+move; then the lead is None, too. Leads are told in parting.py.
 """
 
 from anchoredits.blocks import classes_of, leading
@@ -55,8 +55,9 @@ def likeness(one, other):
         if are_dead(demand, dead, others):
             continue
         left, right, lead = demand
-        # From a pair of states some text is right, so that only one lead can be borne.
-        if left is None or right is None or lead is None or ITSELF in lead[0] + lead[1]:
+        # What depends on the letter that was read is another lead for each letter; but where some text is right behind
+        # two states, only one lead can be borne there.
+        if lead is None or ITSELF in lead[0] + lead[1]:
             return None
         if (left, right) in leads:
             if leads[left, right] != lead:
@@ -104,10 +105,8 @@ def lead_nowhere(table, states):
 
 def is_met(demand, shown, dead, others):
     """Whether rows that are shown, or states behind which no text is right, meet a demand."""
-    if are_dead(demand, dead, others):
-        return True
     left, right, lead = demand
-    return left is not None and right is not None and lead is not None and row_told(left, right, lead) in shown
+    return are_dead(demand, dead, others) or (lead is not None and row_told(left, right, lead) in shown)
 
 
 def is_likeness(one, other, value):

@@ -154,6 +154,7 @@ class EditAtTest(AnchorsTest):
         self.assertIsNone(edit_at("ab", 0, 1, "x" * 41))
         self.assertEqual(edit_at("ab", 0, 0, "x" * 39), Once("a", "x" * 39 + "a"))
         self.assertIsNone(edit_at("ab", 0, 0, "x" * 40))
+        self.assertEqual(edit_at("a" * 50 + "b", 50, 51, "x"), Once("b", "x"))
         # The spot itself has 40 letters, then 41.
         text = "".join(chr(code) for code in range(40, 81))
         self.assertEqual(edit_at(text, 0, 40, "x"), Once(text[:40], "x"))

@@ -128,6 +128,8 @@ class AgreeingTest(CompareTest):
         self.assertEqual(agreeing(Program(Once("a", "b")), Program(Once("a", "c"))), TextSet())
         told = TextSet.having("a") & TextSet.having("b")
         self.assertEqual(agreeing(one=Program(First("a", "a"), First("b", "b")), other=Program()), told)
+        program = Program(First("a", "bcdefghijkl"))
+        self.assertEqual(agreeing(program, program), TextSet.having("a"))
         # Where one deletes what the other one does not, the rest must go round: so no text is alike.
         self.assertEqual(agreeing(Program(Once("ab", "")), Program(Once("ab", "ab"))), TextSet())
         self.assertEqual(agreeing(Program(First("aa", "a"), First("b", "bb")), Program(First("b", "b"))).least, None)

@@ -144,6 +144,15 @@ class PapersTest(LikenessTest):
         one = ("", ((None, (("abc", 1, "", True),)), ("", ())))
         other = ("", ((None, (("abc", 1, "", False),)), ("a", ())))
         self.assertIsNone(likeness(one, other))
+        # Of each two letters one machine writes the first, the other one the second.
+        first = ("", ((None, ((LETTERS, 1, "", True),)), (None, ((LETTERS, 2, "", False),)), ("", ())))
+        second = ("", ((None, ((LETTERS, 1, "", False),)), (None, ((LETTERS, 2, "", True),)), ("", ())))
+        self.assertIsNone(likeness(first, second))
+        self.assertIsNone(likeness(second, first))
+        for text in ("", "a", "b"):
+            for which in (0, 1):
+                rows = ((0, 0, 0, ""), (1, 1, which if text else 0, text), (2, 2, 0, ""))
+                self.assertIs(is_likeness(first, second, (rows, (), ())), False)
 
     def test_random_tables(self):
         chance = random.Random(22)
@@ -210,7 +219,7 @@ class IsLikenessTest(LikenessTest):
             (1, True, 0, "y"), (1, 1, False, "y"), ("1", 1, 0, "y"), (-3, 1, 0, "y"), (4, 1, 0, "y"), (1, 6, 0, "y"),
             (1, -5, 0, "y"), (10 ** 59, 1, 0, "y"), (1, 1, 2, "y"), (1, 1, -1, "y"), (1, 1, None, "y"), (1, 1, 0, None),
             (1, 1, 0, 0), (1, 1, 0, ("y",)), (1, 1, 0, ["y"]), (1, 1, 0, "y\t"), (1, 1, 0, "%"), (0, 0, 1, ""), {0: 1},
-            ([1], 1, 0, "y"), (1, (1,), 0, "y"),
+            ([1], 1, 0, "y"), (1, (1,), 0, "y"), (1, 1, 0, "y", ""),
         ]
         wrong = [(rows + (value,), dead, others) for value in wrong_rows]
         wrong += [(rest + (value,), dead, others) for value in wrong_rows]
@@ -218,10 +227,18 @@ class IsLikenessTest(LikenessTest):
                                               ((3,),), {3: 3}]:
             wrong += [(value, dead, others)] if value != () else []
             wrong += [(rows, value, others), (rows, dead, value)]
+        wrong += [(rows, (3, 4), others), (rows, (3, -1), others), (rows, dead, (3, 4, 6)), (rows, dead, (3, 4, -2))]
         wrong += [list(PAPER), PAPER[:2], PAPER + ((),), (list(rows), dead, others), (rows, list(dead), others),
                   (rows, dead, list(others)), rows, {0: PAPER}, (PAPER,), SAME, EARLY]
         for value in wrong + NO_STRINGS + NO_TEXTS + ["", "abc"]:
             self.assertIs(is_likeness(EARLY, LATE, value), False, value)
+
+    def test_which_of_both_is_ahead(self):
+        rows = ((0, 0, 0, ""), (1, 1, 1, "y"), (2, 2, 0, ""), (5, 2, 0, ""))
+        self.assertIs(is_likeness(LATE, EARLY, (rows, (3, 4), (3,))), True)
+        for row in ((1, 1, 2, "y"), (1, 1, 0, "y"), (1, 1, True, "y"), (1, 1, -1, "y")):
+            self.assertIs(is_likeness(LATE, EARLY, (rows + (row,), (3, 4), (3,))), False)
+            self.assertIs(is_likeness(LATE, EARLY, (rows[:1] + (row,) + rows[2:], (3, 4), (3,))), False)
 
     def test_papers_for_tables_that_are_not_alike(self):
         for paper in (PAPER, (((0, 0, 0, ""),), (), ()), ((), (), ()), ((), (0,), (0,))):

@@ -239,6 +239,10 @@ class OfTableTest(MachinesTest):
         # Behind the letter itself something more is sure: so no letter is copied.
         self.assertEqual(Machine.of_table(table).table, (
             "x", ((None, (("a", 1, "ay", False), ("b", 1, "by", False))), ("", ()))))
+        # The same of letters between which others stand.
+        table = ("", ((None, (("ace", 1, "", True), ("bd", 2, "", True))), ("y", ()), ("z", ())))
+        self.assertEqual(Machine.of_table(table).table, ("", (
+            (None, tuple((letter, 1, letter + end, False) for letter, end in zip("abcde", "yzyzy"))), ("", ()))))
         # Two letters that write the same one: for one of them it is the letter itself.
         table = ("", (("", (("ab", 1, "a", False), ("c", 1, "", True))), ("", ())))
         self.assertEqual(Machine.of_table(table).table, (
