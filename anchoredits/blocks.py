@@ -74,26 +74,27 @@ def blocks_of(keys, arrows):
     members = dict(grouped([(number, state) for state, number in enumerate(block)]))
     into = grouped([(target, (label, source)) for source, label, target in arrows])
     waiting = list(members)
-    waits = [True for _ in members]
     while waiting:
         splitter = waiting.pop()
-        waits[splitter] = False
         sources = grouped([row for state in members[splitter] for row in into.get(state, [])])
         for label in sources:
             hit = grouped([(block[source], source) for source in sources[label]])
             for number in hit:
-                if len(hit[number]) == len(members[number]):
-                    continue
                 inside = {state: True for state in hit[number]}
-                members[len(waits)] = hit[number]
-                members[number] = [state for state in members[number] if state not in inside]
-                for state in hit[number]:
-                    block[state] = len(waits)
-                # It is enough to look at the smaller half, unless the whole was still to be looked at.
-                fresh = waits[number] or len(hit[number]) <= len(members[number])
-                waiting.append(len(waits) if fresh else number)
-                waits.append(fresh)
-                waits[number] = waits[number] or not fresh
+                others = [state for state in members[number] if state not in inside]
+                if not others:
+                    continue
+                # The smaller half is the new block. It is enough to look at this one, unless the whole still waits; and
+                # then the other half waits under the old number.
+                less, more = hit[number], others
+                if len(less) > len(more):
+                    less, more = more, less
+                fresh = len(members)
+                members[number] = more
+                members[fresh] = less
+                for state in less:
+                    block[state] = fresh
+                waiting.append(fresh)
     return block
 
 
@@ -106,7 +107,8 @@ def numbers_from_first(targets, first):
     met = [first]
     done = 0
     while done < len(met):
-        for target in targets[met[done]]:
+        state = met[done]
+        for target in targets[state]:
             if target not in numbers:
                 numbers[target] = len(numbers)
                 met.append(target)

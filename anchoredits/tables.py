@@ -195,13 +195,14 @@ def first_text(table):
     met = [0]
     done = 0
     while done < len(met):
-        is_in, moves = table[met[done]]
+        state = met[done]
+        is_in, moves = table[state]
         if is_in:
-            return texts[met[done]]
+            return texts[state]
         for letters, target in moves:
             if target not in texts:
                 # The moves ascend: so of several texts of one length the least comes first.
-                texts[target] = texts[met[done]] + letters[0]
+                texts[target] = texts[state] + letters[0]
                 met.append(target)
         done += 1
     return None
@@ -217,8 +218,9 @@ def size_of(table):
     free = [state for state in range(len(table)) if ahead[state] == 0]
     done = 0
     while done < len(free):
-        for letters, target in table[free[done]][1]:
-            many[target] = many[target] + many[free[done]] * len(letters)
+        state = free[done]
+        for letters, target in table[state][1]:
+            many[target] = many[target] + many[state] * len(letters)
             ahead[target] = ahead[target] - 1
             if ahead[target] == 0:
                 free.append(target)
