@@ -1,7 +1,7 @@
 """Unlike texts with one result."""
 
 from anchoredits.cores import ITSELF, endings_of, rows_written
-from anchoredits.parting import classes_for, lead_behind
+from anchoredits.parting import exact_classes, lead_behind
 
 # The state of a text that has ended.
 ENDED = -1
@@ -12,7 +12,7 @@ def steps_from(table):
 
     Of letters that are only copied one stands for all: if two texts differ in such letters alone, their results do.
     """
-    classes = classes_for(table, table, [])
+    classes = exact_classes(table, table)
     told = []
     for ending, row in zip(endings_of(table), rows_written(table, classes)):
         rows = [] if ending is None else [("", ENDED, ending)]

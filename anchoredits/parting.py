@@ -39,6 +39,21 @@ def classes_for(one, other, texts):
     return classes_of(words_read(one) + words_read(other) + alone)
 
 
+def letters_not_copied(table):
+    """The letters of all moves that do not write the letter itself in the end."""
+    return [letter for _, moves in table[1] for letters, _, _, copies in moves if not copies for letter in letters]
+
+
+def exact_classes(one, other):
+    """Classes of the letters that two tables read, such that one letter of a class can stand for all of it.
+
+    Two letters that do the same are still two letters: if they are not copied, texts that differ in them may have one
+    result, or they may differ from what another machine has copied. So a letter that some move does not copy is alone.
+    All others are copied by both machines as soon as they are read: so they stand in no lead.
+    """
+    return classes_for(one, other, letters_not_copied(one) + letters_not_copied(other))
+
+
 def comes_of(ending, other_ending, lead):
     """What comes of a text that ends with these endings behind a lead."""
     if ending is None:
@@ -53,7 +68,7 @@ def view_of(one, other):
 
     Behind a missing move stands a state that leads nowhere, the last one.
     """
-    classes = classes_for(one, other, [])
+    classes = exact_classes(one, other)
     rows, endings = [*rows_written(one, classes), {}], [*endings_of(one), None]
     other_rows, other_endings = [*rows_written(other, classes), {}], [*endings_of(other), None]
     return classes, rows, endings, other_rows, other_endings
