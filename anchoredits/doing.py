@@ -41,6 +41,15 @@ def puts_of_one(edit, index, text):
     return [(place, place + len(edit.old), edit.new, 0) for place in apart(found, len(edit.old))]
 
 
+def checked_puts(puts, index):
+    """What the AtOnce with this index puts, from left to right; Overlap if two of these overlap."""
+    told = sorted(puts)
+    for left, right in zip(told, told[1:]):
+        if right[0] < left[1]:
+            raise Overlap(index)
+    return told
+
+
 def puts_of_parts(parts, index, text):
     """What puts_of tells, for an AtOnce."""
     puts = []
@@ -49,11 +58,7 @@ def puts_of_parts(parts, index, text):
         if len(found) != 1:
             raise NoPlace(index, len(found))
         puts.append((found[0], found[0] + len(old), new, part))
-    puts = sorted(puts)
-    for left, right in zip(puts, puts[1:]):
-        if right[0] < left[1]:
-            raise Overlap(index)
-    return puts
+    return checked_puts(puts, index)
 
 
 def puts_of(edit, index, text):
@@ -67,10 +72,11 @@ def puts_of(edit, index, text):
 
 
 def text_behind(text, puts):
-    """The text in which all of these are put."""
+    """The text in which all of these are put: tuples that begin with (begin, end, new), from left to right."""
     pieces = []
     kept = 0
-    for begin, end, new, _ in puts:
+    for put in puts:
+        begin, end, new = put[:3]
         pieces.append(text[kept:begin])
         pieces.append(new)
         kept = end

@@ -36,6 +36,17 @@ INTERFACE = {
     "anchors": dict.fromkeys([
         "windows", "edit_at", "ways", "outcomes", "steady", "breaker", "stays", "spoiled",
     ]),
+    "misses": dict.fromkeys(["changed", "changes", "distance", "nearest", "far_paper", "is_far_paper"]),
+    "exchanges": dict.fromkeys([
+        "exchanged", "is_exchange", "cost_of", "cheapest", "prices", "is_prices", "single", "thinned", "orders_of", "as_edit",
+    ]),
+    "hands": {
+        "hunks": None,
+        "Merge": [
+            "__init__", "text", "hands", "clashes", "peaceful", "hunks_of", "together", "origins_of", "led_over", "led_back",
+            "is_led",
+        ],
+    },
     "errors": {
         "InvalidOld": ["__init__"],
         "InvalidNew": ["__init__"],
@@ -102,7 +113,31 @@ PARAMETERS = {
         "steady": "text first last edits", "breaker": "text begin end edits", "stays": "edit program",
         "spoiled": "edit others",
     },
+    "misses": {
+        "changed": "text changes", "changes": "one other", "distance": "one other", "nearest": "text old",
+        "far_paper": "one other", "is_far_paper": "one other number value",
+    },
+    "exchanges": {
+        "exchanged": "text exchange", "is_exchange": "text other value", "cost_of": "exchange each=0",
+        "cheapest": "one other each=0", "prices": "one other each=0", "is_prices": "one other number value each=0",
+        "single": "one other", "thinned": "text exchange", "orders_of": "text exchange", "as_edit": "text exchange",
+    },
+    "hands": {
+        "hunks": "program text", "Merge": "text *programs", "Merge.peaceful": "", "Merge.hunks_of": "*hands",
+        "Merge.together": "*hands", "Merge.origins_of": "*hands", "Merge.led_over": "hand *others",
+        "Merge.led_back": "hand *others", "Merge.is_led": "hand others value",
+    },
 }
+
+# Parameters that are passed by name only.
+BY_NAME_ONLY = ["each"]
+
+
+def written(parameter):
+    """A parameter as PARAMETERS has it."""
+    star = "*" if parameter.kind is parameter.VAR_POSITIONAL else ""
+    default = "" if parameter.default is parameter.empty else f"={parameter.default!r}"
+    return star + parameter.name + default
 
 
 class InterfaceTest(unittest.TestCase):
@@ -129,9 +164,10 @@ class InterfaceTest(unittest.TestCase):
                 for part in name.split("."):
                     value = getattr(value, part)
                 parameters = list(inspect.signature(value).parameters.values())
-                words = [("*" if parameter.kind is parameter.VAR_POSITIONAL else "") + parameter.name
-                         for parameter in parameters if parameter.name != "self"]
+                words = [written(parameter) for parameter in parameters if parameter.name != "self"]
                 self.assertEqual(" ".join(words), told, name)
+                for parameter in parameters:
+                    self.assertIs(parameter.kind is parameter.KEYWORD_ONLY, parameter.name in BY_NAME_ONLY, name)
 
 
 if __name__ == "__main__":

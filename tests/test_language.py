@@ -23,6 +23,9 @@ RuntimeError NotImplementedError AttributeError StopIteration NotImplemented ite
 staticmethod classmethod bytes object
 """.split()
 
+# Without the name _, which the examples of README.md leave behind when they have run.
+ALL_BUILTINS = [name for name in dir(builtins) if name != "_"]
+
 BARRED_WORDS = re.compile(
     r"\b(type|typing|typing_extensions|enum|Enum|IntEnum|StrEnum|Flag|IntFlag|Generic|Protocol|ABC|ABCMeta|namedtuple"
     r"|NamedTuple|TypedDict|TYPE_CHECKING|abstractmethod)\b|dataclass|overload|contextmanager|_wall|_WallAttr")
@@ -56,7 +59,7 @@ class LanguageTest(SourcesTest):
         self.assertIn("__init__.py", self.sources)
         for file in self.sources:
             self.assertRegex(file, r"^(__init__|__main__|[a-z][a-z0-9_]*)\.py$")
-            self.assertNotIn(file[:-len(".py")], dir(builtins))
+            self.assertNotIn(file[:-len(".py")], ALL_BUILTINS)
         self.assertLessEqual(len(self.sources), 100)
 
     def test_characters(self):
@@ -96,13 +99,13 @@ class LanguageTest(SourcesTest):
 
     def test_builtins(self):
         for place, node in self.nodes():
-            if isinstance(node, ast.Name) and node.id in dir(builtins):
+            if isinstance(node, ast.Name) and node.id in ALL_BUILTINS:
                 self.assertIn(node.id, BUILTINS, place)
                 self.assertIsInstance(node.ctx, ast.Load, place)
             if isinstance(node, (ast.FunctionDef, ast.ClassDef)) and not node.name.startswith("__"):
-                self.assertNotIn(node.name, dir(builtins), place)
+                self.assertNotIn(node.name, ALL_BUILTINS, place)
             if isinstance(node, ast.arg):
-                self.assertNotIn(node.arg, dir(builtins), place)
+                self.assertNotIn(node.arg, ALL_BUILTINS, place)
 
     def test_statements(self):
         for place, node in self.nodes():
