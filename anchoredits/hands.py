@@ -138,7 +138,7 @@ class Merge:
             others = [hand for hand in enemies if hand not in some]
             if all([any([one in enemies[hand] for one in some]) for hand in others]):
                 told.append(some)
-        return sorted(told, key=lambda some: (-len(some), some))
+        return sorted(told, key=lambda hands: (-len(hands), hands))
 
     def hunks_of(self, *hands):
         """The hunks of some hands, ascending, without duplicates."""

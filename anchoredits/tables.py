@@ -237,15 +237,20 @@ def letters_of(table):
     return "".join(sorted(list(seen)))
 
 
+def led_by(table, state, text):
+    """The state to which a text leads from a state, None if a move is missing or the state itself is None."""
+    for letter in text:
+        if state is None:
+            return None
+        targets = [target for letters, target in table[state][1] if letter in letters]
+        state = targets[0] if targets else None
+    return state
+
+
 def leads_to(table, text):
     """Whether the text is in the set of a table."""
-    state = 0
-    for letter in text:
-        targets = [target for letters, target in table[state][1] if letter in letters]
-        if not targets:
-            return False
-        state = targets[0]
-    return table[state][0]
+    state = led_by(table, 0, text)
+    return state is not None and table[state][0]
 
 
 def count_of(table, number, letters):

@@ -47,6 +47,24 @@ INTERFACE = {
             "is_led",
         ],
     },
+    "longs": {
+        "run_long": None, "origin_long": None, "stands_in": None, "times_in": None,
+        "LongText": [
+            "__init__", "__eq__", "__add__", "of", "length", "runs", "letter", "part", "difference", "count", "place",
+        ],
+    },
+    "folders": {
+        "joined": None,
+        "Folder": [
+            "__init__", "files", "moment", "undone", "depth", "apply", "write", "remove", "undo", "redo", "attempt", "explore",
+            "at", "blame",
+        ],
+        "GuardedFolder": ["__init__", "keep", "do", "labels"],
+        "CountingFolder": ["__init__", "counts"],
+        "GuardedCountingFolder": ["__init__"],
+    },
+    "texts": dict.fromkeys(["write_literal", "write_program", "read_literal", "read_program", "read_long"]),
+    "desks": {"Desk": ["__init__", "folder", "say"]},
     "errors": {
         "InvalidOld": ["__init__"],
         "InvalidNew": ["__init__"],
@@ -127,6 +145,23 @@ PARAMETERS = {
         "Merge.together": "*hands", "Merge.origins_of": "*hands", "Merge.led_over": "hand *others",
         "Merge.led_back": "hand *others", "Merge.is_led": "hand others value",
     },
+    "longs": {
+        "run_long": "program long", "origin_long": "program long place", "stands_in": "long texts",
+        "times_in": "texts head piece tail", "LongText.of": "text", "LongText.letter": "place", "LongText.part": "first last",
+        "LongText.difference": "other", "LongText.count": "word", "LongText.place": "word number",
+    },
+    "folders": {
+        "joined": "one other", "Folder": "files", "Folder.apply": "programs", "Folder.write": "name text",
+        "Folder.remove": "name", "Folder.undo": "count=1", "Folder.redo": "count=1", "Folder.attempt": "action",
+        "Folder.explore": "action", "Folder.at": "number", "Folder.blame": "name", "GuardedFolder": "files guards",
+        "GuardedFolder.keep": "label program names", "GuardedFolder.do": "label", "CountingFolder": "files",
+        "GuardedCountingFolder": "files guards",
+    },
+    "texts": {
+        "write_literal": "text", "write_program": "program", "read_literal": "text", "read_program": "text",
+        "read_long": "text",
+    },
+    "desks": {"Desk": "", "Desk.say": "row"},
 }
 
 # Parameters that are passed by name only.
