@@ -171,7 +171,7 @@ def least_period(told, again):
     """The least (start, period) of what is told of each number; behind the last one the entry again comes again."""
     cycle = told[again:]
     period = 1
-    while len(cycle) % period > 0 or cycle[period:] + cycle[:period] != cycle:
+    while cycle[period:] + cycle[:period] != cycle:
         period += 1
     start = again
     while start > 0 and told[start - 1] == told[wrapped(start - 1 + period, again, len(told))]:

@@ -45,8 +45,8 @@ def taken_in(row, length, end):
         if offset in seen:
             cycle = taken[seen[offset]:]
             ahead = number - cycle[0]
-            # Once less than the places last: so all letters of the last time, too, stand in this row's run.
-            times = (row[3] - 1 - cycle[-1]) // ahead - 1
+            # Behind the last time comes a place of this row, too: so all letters up to there stand in its run.
+            times = (row[3] - 1 - number) // ahead
             if times > 0:
                 shift = place - place_in_row(row, cycle[0])
                 told.append(([place_in_row(row, one + ahead) for one in cycle], shift, times))

@@ -78,7 +78,7 @@ class ExchangedTest(unittest.TestCase):
         for exchange, index in (
                 (((0, 2, "x"),), 0), (((3, 5, "x"),), 0), (((2, 3, ""), (3, 4, "")), 1), (((0, 1, ""), (2, 3, "")), 0),
                 (((1, 3, ""), (2, 4, "")), 1), (((4, 6, ""), (2, 3, "")), 1), (((2, 3, ""), (2, 3, "")), 1),
-                (((2, 2, "x"),), 0), (((3, 2, "x"),), 0), (((-1, 3, "x"),), 0), (((2, 7, "x"),), 0), (((6, 7, "x"),), 0),
+                (((2, 2, "x"),), 0), (((3, 2, "x"),), 0), (((-1, 3, "x"),), 0), (((-1, 6, "x"),), 0), (((2, 7, "x"),), 0), (((6, 7, "x"),), 0),
                 (((2, 3, ""), (5, 6, ""), (6, 6, "x")), 2), (((2, 10 ** 59, ""),), 0)):
             self.assertEqual(raised(self, NoExchange, exchanged, "abcabd", exchange).index, index)
             self.assertIs(is_exchange("abcabd", "abcabd", exchange), False)
@@ -261,6 +261,7 @@ class PricesTest(unittest.TestCase):
         # What each part costs counts.
         self.assertIs(is_prices("a", "b", 3, ("prices", ((0, 9), (2, 3)), ((9, 9), (2, 3))), each=1), True)
         self.assertIs(is_prices("a", "b", 3, ("prices", ((0, 9), (2, 3)), ((9, 9), (2, 3))), each=0), False)
+        self.assertIs(is_prices("a", "b", 3, ("prices", ((0, 9), (2, 3)), ((9, 9), (2, 3)))), False)
 
     def test_without_an_exchange(self):
         # No step leads from the empty text to another one: so a right paper may have any number.

@@ -290,6 +290,10 @@ class TogetherTest(unittest.TestCase):
         merge = Merge("abc", Program(Once("a", "x")), Program(Once("c", "x")), Program(Once("abc", "x")))
         told = raised(self, Clash, merge.together, 2, 1, 0)
         self.assertEqual([told.hand, told.other], [0, 2])
+        # By hands, not by hunks.
+        merge = Merge("abcd", Program(Once("a", "x"), Once("d", "y")), Program(Once("d", "z")), Program(Once("a", "z")))
+        told = raised(self, Clash, merge.together, 2, 1, 0)
+        self.assertEqual([told.hand, told.other], [0, 1])
 
     def test_beside_the_words_of_the_document(self):
         chance = random.Random(63)
@@ -471,7 +475,8 @@ class LedTest(unittest.TestCase):
                       ((0, 2, "xb"), (2, 4, "yd")), ((0, 4, "xbyd"),), ((0, 3, "xby"),)):
             self.assertIs(merge.is_led(0, [], value), True)
         for value in (((0, 1, "x"),), ((0, 1, "x"), (1, 2, "b"), (2, 3, "y")), ((0, 1, "xb"), (1, 3, "y")),
-                      ((0, 1, "x"), (2, 3, "y"), (3, 4, "d")), ((0, 2, "xby"), (2, 3, "")), ((0, 1, ""), (1, 3, "xby"))):
+                      ((0, 1, "x"), (2, 3, "y"), (3, 4, "d")), ((0, 2, "xby"), (2, 3, "")), ((0, 1, ""), (1, 3, "xby")),
+                      ((1, 4, "byd"),), ((1, 4, "bcxbyd"),), ((1, 3, "by"),), ()):
             self.assertIs(merge.is_led(0, [], value), False)
 
     def test_is_led_with_any_value(self):

@@ -398,6 +398,11 @@ class SetsTest(unittest.TestCase):
         third = TextSet.of_table(((True, (("a", 1),)), (False, (("a", 2),)), (False, (("a", 0),))))
         self.assertEqual([stands_in(LongText(("a", MOST + number)), third) for number in (-1, 0)], [True, False])
         self.assertIs(stands_in(LongText(("aa", MOST), ("a", 1)), third), True)
+        # The same behind a beginning of its own.
+        late = TextSet.of_table(((True, (("a", 1),)), (True, (("a", 2),)), (False, (("a", 3),)), (False, (("a", 1),))))
+        self.assertEqual([stands_in(LongText(("a", MOST - number)), late) for number in range(4)], [True, False, False, True])
+        self.assertEqual(times_in(late, "", "a", ""), (1, 3, (0,), (0,)))
+        self.assertEqual(times_in(late, "a", "aa", "a"), (0, 3, (), (1,)))
 
     def test_stands_in_beside_texts_that_are_written_out(self):
         chance = random.Random(74)

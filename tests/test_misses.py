@@ -232,10 +232,12 @@ class FarPaperTest(unittest.TestCase):
                     for value in (True, False, None, "1", (1,), [1], 1.0):
                         self.assertIs(is_far_paper(one, other, number, ("far", with_entry(rows, i, j, value))), False)
         self.assertGreater(some, 10)
-        for _ in range(2000):
-            rows = tuple(tuple(chance.randint(0, 2) for _ in range(3)) for _ in range(3))
-            number = chance.randint(0, 2)
-            self.assertIs(is_far_paper("ab", "bb", number, ("far", rows)), self.is_right("ab", "bb", number, rows))
+        for least in (0, -4):
+            for _ in range(2000):
+                rows = tuple(tuple(chance.randint(least, 2) for _ in range(3)) for _ in range(3))
+                rows = ((0,) + rows[0][1:], *rows[1:])
+                number = rows[2][2]
+                self.assertIs(is_far_paper("ab", "bb", number, ("far", rows)), self.is_right("ab", "bb", number, rows))
 
     def test_lesser_numbers(self):
         # A paper may show less than the distance.
