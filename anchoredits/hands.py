@@ -6,7 +6,7 @@ from anchoredits.covers import least_cover
 from anchoredits.doing import text_behind
 from anchoredits.errors import Clash, InvalidHand, InvalidProgram, InvalidText, NotRight, TooMany
 from anchoredits.exchanges import first_wrong
-from anchoredits.hunking import clashing, gaps, hunks_between, moved
+from anchoredits.hunking import clashing, gaps, moved
 from anchoredits.integers import is_integer_in
 from anchoredits.letters import is_text
 from anchoredits.limits import MAX_HANDS
@@ -14,18 +14,17 @@ from anchoredits.origins import origins
 from anchoredits.programs import Program
 
 
-def hunks(program, text):
-    """All hunks of what a program does to a text, ascending."""
-    entries = origins(program, text)
-    return hunks_between(len(text), program.run(text), entries)
-
-
 def origins_of_hunks(program, text):
-    """A dict from each hunk of a program to the origins of the letters that it puts."""
+    """A dict from each hunk of what a program does to a text, ascending, to the origins of the letters that it puts."""
     entries = origins(program, text)
     result = program.run(text)
     found = gaps(len(text), entries)
     return {(first, last, result[begin:end]): entries[begin:end] for first, last, begin, end in found}
+
+
+def hunks(program, text):
+    """All hunks of what a program does to a text, ascending."""
+    return list(origins_of_hunks(program, text))
 
 
 def check_programs(text, programs):
